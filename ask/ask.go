@@ -20,10 +20,15 @@ func Answer(c *iv.Calc, a api.Iv, p int) (api.Iv, api.Errno) {
 	if c.Err() != api.OK {
 		return api.Iv{}, c.Err()
 	}
-	out, e := iv.New(p)
+	return Round(a, p)
+}
+
+// Round is a, rounded outward to precision p.
+func Round(a api.Iv, p int) (api.Iv, api.Errno) {
+	c, e := iv.New(p)
 	if e != api.OK {
 		return api.Iv{}, e
 	}
-	a = out.Out(a)
-	return a, out.Err()
+	a = c.Out(a)
+	return a, c.Err()
 }
