@@ -1,6 +1,8 @@
 package cheb
 
 import (
+	"slices"
+
 	"astrolabe/api"
 	"astrolabe/dyad"
 	"astrolabe/fun"
@@ -40,13 +42,19 @@ func newGrid(d int) (grid, api.Errno) {
 // task is a function of an order.
 type task struct{ f, n int }
 
+// clipped is x without spare room behind its digits.
+func clipped(x api.Dy) api.Dy {
+	x.M.Mag = slices.Clip(x.M.Mag)
+	return x
+}
+
 // Make is the piece of degree d over the stretch from a on, 2^w wide.
 func Make(f, n int, a api.Dy, w, d int) (api.Piece, api.Errno) {
 	g, e := newGrid(d)
 	if e != api.OK {
 		return api.Piece{}, e
 	}
-	return task{f, n}.piece(stretch{a, w}, g)
+	return task{f, n}.piece(stretch{clipped(a), w}, g)
 }
 
 // piece is Make, the grid being known.
@@ -202,6 +210,7 @@ func Build(f, n int, a api.Dy, w, p, d, fuel int) (t api.Table, used int, e api.
 	if e != api.OK {
 		return api.Table{}, 0, e
 	}
+	a = clipped(a)
 	pieces, used, e := task{f, n}.pieces(stretch{a, w}, g, p, fuel)
 	if e == api.ErrFuel {
 		return api.Table{}, used, e

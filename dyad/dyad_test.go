@@ -592,3 +592,25 @@ func TestLaws(t *testing.T) {
 		}
 	}
 }
+
+// P3: what is answered has no spare room in what was handed in.
+func TestSpareRoom(t *testing.T) {
+	x := api.Dy{M: api.Int{Mag: []uint32{3, 5, 88, 88}[:2]}, E: 4}
+	var zero api.Dy
+	sum, _ := dyad.Add(x, zero)
+	other, _ := dyad.Add(zero, x)
+	rest, _ := dyad.Sub(x, zero)
+	scaled, _ := dyad.Scale(x, 3)
+	down, _ := dyad.Round(x, 100, false)
+	made, _ := dyad.Make(x.M, 0)
+	for i, y := range []api.Dy{sum, other, rest, scaled, down, made, dyad.Neg(x)} {
+		_ = append(y.M.Mag, 77)
+		if !slices.Equal(x.M.Mag[:4], []uint32{3, 5, 88, 88}) {
+			t.Fatal("spare room is shared", i)
+		}
+	}
+	made.M.Mag[0] = 9
+	if x.M.Mag[0] != 3 {
+		t.Error("Make keeps its list")
+	}
+}

@@ -437,3 +437,23 @@ func TestInclusion(t *testing.T) {
 		}
 	}
 }
+
+// P3: what is answered has no spare room in what was handed in, nor in another answer.
+func TestSpareRoom(t *testing.T) {
+	c := calc(t, 100)
+	x := api.Dy{M: api.Int{Mag: []uint32{3, 5, 88, 88}[:2]}, E: 4}
+	a := api.Iv{Lo: x, Hi: x}
+	answers := []api.Iv{c.Point(x), c.Neg(a), c.Add(a, c.Int(0)), c.Sub(a, c.Int(0)), c.Mul(a, c.Int(1)), c.Scale(a, 2), c.Wide(a, api.Dy{}), c.Hull(a), c.Hull(a, a), c.Meet(a, a), c.Out(a), {Lo: c.Mid(a)}}
+	for i, b := range answers {
+		_ = append(b.Lo.M.Mag, 77)
+		_ = append(b.Hi.M.Mag, 66)
+		if !slices.Equal(x.M.Mag[:4], []uint32{3, 5, 88, 88}) {
+			t.Fatal("spare room is shared", i)
+		}
+	}
+	seven := c.Int(7)
+	seven.Lo.M.Mag[0] = 9
+	if seven.Hi.M.Mag[0] != 7 || c.Err() != api.OK {
+		t.Error("Int: both numbers share", seven, c.Err())
+	}
+}

@@ -139,3 +139,29 @@ func TestBuilt(t *testing.T) {
 		}
 	}
 }
+
+// P3: no two lists of an answer share memory.
+func TestNewMemory(t *testing.T) {
+	_, text := table()
+	got, e := tabc.Decode(text)
+	if e != api.OK {
+		t.Fatal("Decode", e)
+	}
+	var numbers []api.Dy
+	numbers = append(numbers, got.A)
+	for _, p := range got.Pieces {
+		numbers = append(append(numbers, p.A, p.Err), p.C...)
+	}
+	for i, x := range numbers {
+		for j := range x.M.Mag[:cap(x.M.Mag)] {
+			x.M.Mag[:cap(x.M.Mag)][j] = uint32(i) + 1000
+		}
+	}
+	for i, x := range numbers {
+		for _, d := range x.M.Mag {
+			if d != uint32(i)+1000 {
+				t.Error("digits are shared", i)
+			}
+		}
+	}
+}
