@@ -444,6 +444,26 @@ func TestRight(t *testing.T) {
 	if !cheb.Right(many) {
 		t.Error("not Right: 32 pieces")
 	}
+	pieces := func(w, many, numbers int) []api.Piece {
+		var l []api.Piece
+		for i := range many {
+			a, _ := dyad.Make(zint.From(i), w)
+			l = append(l, api.Piece{A: a, W: w, C: make([]api.Dy, numbers)})
+		}
+		return l
+	}
+	for name, c := range map[string]struct {
+		w, degree int
+		l         []api.Piece
+		want      bool
+	}{
+		"2^10 wide": {10, 2, pieces(9, 2, 3), true}, "2^11 wide": {11, 2, pieces(10, 2, 3), false}, "degree 0": {0, 0, pieces(0, 1, 1), false}, "degree 1": {0, 1, pieces(0, 1, 2), true},
+		"degree 16": {0, 16, pieces(0, 1, 17), true}, "degree 17": {0, 17, pieces(0, 1, 18), false}, "degree -1": {0, -1, pieces(0, 1, 0), false}, "64 pieces": {6, 2, pieces(0, 64, 3), false},
+	} {
+		if tab := (api.Table{Fun: api.Sin, W: c.w, Prec: 9, Degree: c.degree, Pieces: c.l}); cheb.Right(tab) != c.want {
+			t.Error("Right", name)
+		}
+	}
 	narrow := table()
 	narrow.W, narrow.Pieces = -30, []api.Piece{{A: num(1, 0), W: -30, C: make([]api.Dy, 3)}}
 	if !cheb.Right(narrow) {

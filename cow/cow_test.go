@@ -609,6 +609,15 @@ func TestSiblings(t *testing.T) {
 			t.Error(name, next, e, len(p.Fresh())-before)
 		}
 	}
+	// A sibling that is 8 deep is not too deep.
+	deep := layNode(t, p, inner([]string{"m"}, small, kid))
+	for range 6 {
+		deep = layNode(t, p, inner(nil, deep))
+	}
+	next, e := cow.Delete(p, deep, "n")
+	if l, e2 := cow.Scan(p, next, "", ""); e != api.OK || e2 != api.OK || len(l) != 2 {
+		t.Error("Delete of depth 8", next, e, l, e2)
+	}
 	// Get and Put read just the way down.
 	root := layNode(t, p, inner([]string{"m", "s"}, bad, kid, bad))
 	if kid, e := cow.Get(p, root, "n"); kid != 101 || e != api.OK {

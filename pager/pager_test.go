@@ -320,6 +320,36 @@ func TestTurn(t *testing.T) {
 	}
 }
 
+// P19.1, P19.3: turns, roots and pages of more than a byte.
+func TestGreatNumbers(t *testing.T) {
+	d := newDisk(t, 1024)
+	const turn = 0x010203040506
+	page.Write(d, turn%2, 1, headText(turn, 0, 0, 1))
+	p, e := pager.Open(d)
+	if e != api.OK || p.Turn() != turn || p.Pages() != 512 {
+		t.Fatal("Open", e)
+	}
+	alloc(t, p, 510)
+	if e := p.Commit(0x1ff); e != api.OK {
+		t.Error("Commit", e)
+	}
+	if _, text, e := page.Read(d, (turn+1)%2); e != api.OK || text != headText(turn+1, 0x1ff, count(512)...) {
+		t.Errorf("the head: %q %d", text, e)
+	}
+	kept := []int{7, 8, 63, 64, 65, 255, 256, 300, 510, 511}
+	if e := p.Keep(0x12c, kept); e != api.OK {
+		t.Error("Keep", e)
+	}
+	q, e := pager.Open(d)
+	if e != api.OK {
+		t.Fatal("Open", e)
+	}
+	is(t, q, turn+2, 0x12c, append([]int{0, 1}, kept...), nil)
+	if n, e := q.Alloc(); n != 2 || e != api.OK {
+		t.Error("Alloc", n, e)
+	}
+}
+
 // P19.2, P19.3: the power goes, and the pager stays down.
 func TestDown(t *testing.T) {
 	calls := map[string]func(p *pager.Pager) api.Errno{

@@ -569,6 +569,24 @@ func TestScrub(t *testing.T) {
 	}
 }
 
+// P24.5: the power goes in Prune, or in Gc.
+func TestDownInChanges(t *testing.T) {
+	for name, change := range map[string]func(s *store.Store) (int, api.Errno){
+		"Prune": func(s *store.Store) (int, api.Errno) { return 0, s.Prune(1) }, "Gc": (*store.Store).Gc,
+	} {
+		for fuse := range 4 {
+			d, s := format(t, 200)
+			commit(t, s, map[string]api.Table{"a": table(1)})
+			commit(t, s, map[string]api.Table{"a": table(2), "b": table(3)})
+			used := s.Used()
+			d.Fuse(fuse)
+			if n, e := change(s); n != 0 || e != api.ErrDown || !s.Down() || !slices.Equal(s.Used(), used) || len(s.Fresh()) != 0 || !slices.Equal(s.Versions(), []int{1, 2}) {
+				t.Error(name, fuse, n, e, s.Used(), s.Fresh(), s.Versions())
+			}
+		}
+	}
+}
+
 // ErrDown is told first by each call that tells errors.
 func TestDown(t *testing.T) {
 	for _, busy := range []bool{false, true} {
